@@ -1,0 +1,1 @@
+"""Coins that let people hold exactly what they own."""
