@@ -96,3 +96,15 @@ def joined_pools(one, other):
     if len(coins) > MOST_COINS:
         raise BadPool(0, "many")
     return tuple(sorted(coins))
+
+
+def beyond(coins, others):
+    """The coins that are more than those of the others, worth by worth."""
+    left = list(others)
+    more = []
+    for coin in coins:
+        if coin in left:
+            left.remove(coin)
+        else:
+            more.append(coin)
+    return tuple(more)

@@ -2,7 +2,9 @@
 
 import signal
 import unittest
+from collections import Counter
 from contextlib import contextmanager
+from functools import cache
 from itertools import combinations, combinations_with_replacement, product
 
 SECONDS = 20
@@ -81,6 +83,129 @@ def rows_of_coins(count, total, least=1):
     ]
 
 
+def rest_by_counts(pool, lot):
+    """The pool without a lot, by counts, or None if the lot is not within."""
+    left = Counter(pool)
+    left.subtract(Counter(lot))
+    if any(many < 0 for many in left.values()):
+        return None
+    return tuple(sorted(left.elements()))
+
+
+@cache
+def lots_in_order(pool):
+    """All lots, in their order."""
+    return sorted(lots_by_masks(pool), key=lot_key)
+
+
+@cache
+def splits_in_order(pool, people):
+    """All splits, in their order."""
+    return sorted(splits_by_owners(pool, people), key=split_key)
+
+
+@cache
+def bears_by_lots(pool, people, lost):
+    """Whether the rest serves, whatever at most so many coins are lost."""
+    return all(
+        serves_by_formula(rest_by_counts(pool, lot), people) for lot in lots_in_order(pool) if len(lot) <= lost
+    )
+
+
+def pool_by_purses(split):
+    return tuple(sorted(coin for purse in split for coin in purse))
+
+
+def worths_by_purses(split):
+    return tuple(sum(purse) for purse in split)
+
+
+def debts_by_worths(split, most=None):
+    """All debts of a split, by three loops."""
+    worths = worths_by_purses(split)
+    return [
+        (debtor, creditor, amount)
+        for debtor in range(len(worths))
+        for creditor in range(len(worths))
+        for amount in range(1, worths[debtor] + 1)
+        if debtor != creditor and (most is None or amount <= most)
+    ]
+
+
+@cache
+def ways_by_splits(split, debt):
+    """All ways of a debt among all splits of the pool, in the order of the creditor's purse."""
+    debtor, creditor, amount = debt
+    wanted = list(worths_by_purses(split))
+    wanted[debtor] -= amount
+    wanted[creditor] += amount
+    ways = [
+        other
+        for other in splits_in_order(pool_by_purses(split), len(split))
+        if worths_by_purses(other) == tuple(wanted)
+        and all(other[person] == split[person] for person in range(len(split)) if person not in (debtor, creditor))
+    ]
+    return sorted(ways, key=lambda way: lot_key(way[creditor]))
+
+
+def is_in_band(worths, band):
+    low, high = (0, None) if band is None else band
+    return all(worth >= low and (high is None or worth <= high) for worth in worths)
+
+
+@cache
+def banded_by_worths(pool, people, band):
+    """All splits within a band, in their order."""
+    return [split for split in splits_in_order(pool, people) if is_in_band(worths_by_purses(split), band)]
+
+
+@cache
+def asked_by_words(split, band, most):
+    """All asked debts, ascending."""
+    low, high = (0, None) if band is None else band
+    worths = worths_by_purses(split)
+    return [
+        (debtor, creditor, amount) for debtor, creditor, amount in debts_by_worths(split, most)
+        if worths[debtor] - amount >= low and (high is None or worths[creditor] + amount <= high)
+    ]
+
+
+@cache
+def lasting_by_taking_away(pool, people, band, most):
+    """The greatest set of splits that no asked debt leaves, in their order."""
+    lasting = set(banded_by_worths(pool, people, band))
+    while True:
+        falling = {
+            split for split in lasting
+            if any(not set(ways_by_splits(split, debt)) & lasting for debt in asked_by_words(split, band, most))
+        }
+        if not falling:
+            return sorted(lasting, key=split_key)
+        lasting -= falling
+
+
+@cache
+def ranks_by_counting_up(pool, people, band, most):
+    """The ranks of the splits that do not last."""
+    ranks = {}
+    splits = banded_by_worths(pool, people, band)
+    for rank in range(len(splits) + 1):
+        below = set(ranks)
+        for split in splits:
+            if split not in below and any(
+                set(ways_by_splits(split, debt)) <= below for debt in asked_by_words(split, band, most)
+            ):
+                ranks[split] = rank
+    return ranks
+
+
+def plays_by_search(split, debts):
+    """All plays of a row of debts."""
+    if not debts:
+        return [(split,)]
+    return [(split,) + play for way in ways_by_splits(split, debts[0]) for play in plays_by_search(way, debts[1:])]
+
+
 def listed(value):
     """A copy of a value with lists in place of all tuples."""
     if isinstance(value, (list, tuple)):
@@ -113,9 +238,9 @@ def at_once():
         signal.signal(signal.SIGALRM, before)
 
 
-def run(function, *arguments):
+def run(function, *arguments, **more):
     """What a function returns, or the list of what its generator yields."""
-    result = function(*arguments)
+    result = function(*arguments, **more)
     return list(result) if hasattr(result, "__next__") else result
 
 

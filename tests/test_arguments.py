@@ -3,11 +3,12 @@
 import copy
 import unittest
 
-from anyworths import debttext, greedy, holding, leastpools, lots, mints, nextcoins, pools, rations, searching
-from anyworths import serving, splits, splittext, wishes
-from anyworths.errors import BadAmount, BadCoin, BadCount, BadDebts, BadKinds, BadMost, BadNumber, BadOrder
-from anyworths.errors import BadPeople, BadPerson, BadPool, BadRation, BadSplit, BadText, BadTotal, BadUnlike
-from anyworths.errors import BadWish
+from anyworths import bands, bearing, books, breaking, chains, debtrows, debts, debttext, draining, finer, freedom
+from anyworths import greedy, holding, lasting, leastpools, losses, lots, mints, nextcoins, payments, playing, pools
+from anyworths import ranks, rations, searching, serving, splits, splittext, steps, wishes
+from anyworths.errors import BadAmount, BadBand, BadBook, BadCoin, BadCount, BadDebt, BadDebts, BadHeaps, BadKinds
+from anyworths.errors import BadLost, BadLot, BadMost, BadNumber, BadOrder, BadParts, BadPeople, BadPerson, BadPool
+from anyworths.errors import BadRation, BadSplit, BadStep, BadText, BadTotal, BadTurns, BadUnlike, BadWay, BadWish
 from tests.roads import Case, has_list, listed, run
 
 COIN = 10 ** 9
@@ -99,6 +100,46 @@ def order_faults(people):
     return [(thing, BadOrder, ()) for thing in wrong]
 
 
+def debt_faults():
+    """The wrong things in the place of a debt of the split (2,), (), (1, 1)."""
+    wrong = NO_SEQUENCES + ((), (0, 2), (0, 2, 1, 1))
+    for thing in NO_NUMBERS:
+        wrong += ((thing, 2, 1), [0, thing, 1], (0, 2, thing), [9, 9, thing])
+    faults = [(thing, BadDebt, ("debt",)) for thing in wrong]
+    for thing in ((0, 0, 1), (3, 0, 1), (0, 3, 1), (-1, 0, 1), [0, -1, 0], (5, 6, 0)):
+        faults.append((thing, BadDebt, ("persons",)))
+    for thing in ((0, 2, 0), (0, 2, -1), (0, 2, 3), (1, 2, 1), [2, 0, 3], (0, 1, 10 ** 40)):
+        faults.append((thing, BadDebt, ("amount",)))
+    return faults
+
+
+def row_faults():
+    """The wrong things in the place of a row of debts of the split (2,), (), (1, 1)."""
+    good = (0, 2, 1)
+    faults = [(thing, BadDebts, (0, "many")) for thing in NO_SEQUENCES + ((good,) * 13, [None] * 13)]
+    for thing, _, (what,) in debt_faults():
+        faults.append(([thing, None], BadDebts, (0, what)))
+        # Behind the first two debts all worths are as before.
+        faults.append(((good, [2, 0, 1], thing, None), BadDebts, (2, what)))
+    return faults
+
+
+def couple_faults(other):
+    """The wrong things in the place of the one person of a debt whose other person is told."""
+    return [(thing, BadDebt, ("persons",)) for thing in NO_NUMBERS + (-1, 3, other)]
+
+
+def band_faults():
+    """The wrong things in the place of a band."""
+    wrong = [thing for thing in NO_SEQUENCES if thing is not None] + [(), (1,), (0, 1, 2)]
+    faults = [(thing, BadBand, ("band",)) for thing in wrong]
+    faults += [((thing, -1), BadBand, ("low",)) for thing in NO_NUMBERS + (-1, AMOUNT + 1)]
+    for thing in NO_NUMBERS + (2, -1, AMOUNT + 1):
+        if thing is not None:
+            faults.append(([3, thing], BadBand, ("high",)))
+    return faults
+
+
 POOL = ((1, 1, 2), pool_faults())
 PEOPLE = (3, whole(1, 5, BadPeople))
 TWO_PEOPLE = (3, whole(2, 5, BadPeople))
@@ -108,6 +149,21 @@ WISH = ((3, 1, 0), wish_faults(4, 3))
 TEXTS = [(thing, BadText, (0, "text")) for thing in (None, True, 7, b"1", ["1"], ("1",), {}, 1.0)]
 KINDS = ((1, 3), kinds_faults())
 FREE = []
+LOST = (1, whole(0, 12, BadLost))
+LOT = ((1, 2), pool_faults())
+EVEN = ((2, 2, 4), pool_faults())
+DEBT = ((0, 2, 1), debt_faults())
+DEBTOR = (0, couple_faults(2))
+CREDITOR = (2, couple_faults(0))
+ROW = (((0, 2, 1), (2, 0, 3)), row_faults())
+BAND = ((0, 3), band_faults())
+# Bands of a split with the worths 2, 0 and 2.
+AROUND = ((0, 3), band_faults() + [(thing, BadBand, ("worths",)) for thing in ((1, None), (0, 1), [3, 4], (1, 3))])
+MOST = (2, [fault for fault in whole(1, AMOUNT, BadAmount) if fault[0] is not None])
+NO_STEPS = [(thing, BadStep, ()) for thing in NO_NUMBERS + (0, -1)]
+WISH_ALONE = [fault for fault in wish_faults(4, 3) if fault[2][1] != "sum"]
+JOINT = ((1, 1), pool_faults() + [((3,), BadLot, ()), ((2,), BadParts, ()), ((), BadParts, ())])
+WAY = ((1,), (), (1, 2))
 
 
 def count_to(most):
@@ -122,6 +178,30 @@ def first_able(coin, lacks):
     return [person for person, lack in enumerate(lacks) if lack >= coin][0]
 
 
+def ask_once(now):
+    return (0, 2, 1) if now == SPLIT[0] else None
+
+
+def keyed(function, many):
+    """The function with band and most, which are given by keyword alone, as arguments behind so many others."""
+    def call(*told):
+        return run(function, *told[:many], **dict(zip(("band", "most"), told[many:])))
+
+    call.__name__ = function.__name__
+    return call
+
+
+def chosen_longest(pool, people, **more):
+    """What the chooser of these arguments chooses at once."""
+    return breaking.longest_chooser(pool, people, **more)(SPLIT[0], (0, 2, 1), (WAY,))
+
+
+def person_faults(*others):
+    """The wrong things in the place of one of three unlike persons."""
+    return [(thing, BadPerson, ()) for thing in NO_NUMBERS + (-1, 3) + others]
+
+
+BOOK = books.book_of((1, 1, 2), 3, band=(1, None))
 CALLS = [
     (pools.check_pool, [POOL]),
     (pools.check_people, [PEOPLE]),
@@ -158,7 +238,7 @@ CALLS = [
     (splittext.split_text, [SPLIT]),
     (splittext.parse_coins, [("1 1 2", TEXTS)]),
     (splittext.parse_split, [("1 | - | 2", TEXTS)]),
-    (debttext.wish_text, [((3, 1), [fault for fault in wish_faults(4, 3) if fault[2][1] != "sum"])]),
+    (debttext.wish_text, [((3, 1), WISH_ALONE)]),
     (debttext.debts_text, [(((0, 1, 2), (3, 0, 1)), debts_faults())]),
     (debttext.parse_wish, [("3 1", TEXTS)]),
     (debttext.parse_debts, [("0 owes 1 2", TEXTS)]),
@@ -208,9 +288,104 @@ CALLS = [
     (mints.all_minted, [KINDS, count_to(6), TWO_PEOPLE]),
     (mints.fewest_from, [KINDS, total_to(200), TWO_PEOPLE]),
     (mints.mint_fault, [KINDS, total_to(200), TWO_PEOPLE, (mints.NoMint(((0,), (1,))), FREE)]),
+    (losses.check_lost, [LOST]),
+    (losses.serves_after, [POOL, PEOPLE, LOST]),
+    (losses.fallen_fault, [POOL, PEOPLE, LOST, (losses.Fallen((1,), 2, (3, 0, 0)), FREE)]),
+    (losses.felling_lots, [POOL, PEOPLE, LOST]),
+    (losses.needed_coins, [POOL, PEOPLE]),
+    (losses.most_lost, [POOL, PEOPLE]),
+    (losses.most_people_after, [POOL, LOST]),
+    (losses.loss_table, [POOL]),
+    (bearing.greatest_bearing, [count_to(12), TWO_PEOPLE, LOST]),
+    (bearing.bearing_pool, [count_to(12), total_to(10 ** 9), TWO_PEOPLE, LOST]),
+    (bearing.all_bearing, [count_to(12), total_to(36), TWO_PEOPLE, LOST]),
+    (bearing.fewest_bearing, [total_to(10 ** 9), TWO_PEOPLE, LOST]),
+    (bearing.next_bearing, [POOL, TWO_PEOPLE, LOST]),
+    (bearing.bearing_part, [POOL, TWO_PEOPLE, LOST]),
+    (bearing.least_put, [POOL, TWO_PEOPLE, LOST]),
+    (bearing.all_least_puts, [POOL, TWO_PEOPLE, LOST]),
+    (finer.finer_heaps, [POOL, ((1, 3), pool_faults())]),
+    (finer.is_finer, [POOL, ((1, 3), pool_faults())]),
+    (finer.heaps_fault, [POOL, ((1, 3), pool_faults()), (((1,), (1, 2)), FREE)]),
+    (finer.led_split, [SPLIT, (((1,), (1,), (1, 1)), [
+        (None, BadHeaps, ("many",)), (((1,), (0,), ()), BadHeaps, ("heap",)), (((1,), (2,)) * 2, BadHeaps, ("many",)),
+        (((1,), (2,), None), BadHeaps, ("sum",))])]),
+    (finer.broken_coin, [
+        POOL, (2, whole(1, COIN, BadCoin) + [(3, BadLot, ())]), ((1, 1), pool_faults() + [((2,), BadParts, ())])]),
+    (finer.joined_coins, [POOL, JOINT]),
+    (finer.may_join, [POOL, PEOPLE, JOINT]),
+    (finer.good_joins, [POOL, PEOPLE]),
+    (steps.step_of, [POOL]),
+    (steps.check_step, [EVEN, (2, NO_STEPS + [(4, BadStep, ())])]),
+    (steps.parted_pool, [EVEN, (2, NO_STEPS + [(4, BadStep, ())])]),
+    (steps.times_pool, [POOL, (3, NO_STEPS + [(COIN, BadPool, (2, "coin"))])]),
+    (steps.serves_steps, [EVEN, PEOPLE, (2, NO_STEPS + [(4, BadStep, ())])]),
+    (steps.step_wishes, [AMOUNTS, PEOPLE, (2, NO_STEPS)]),
+    (steps.serving_step, [EVEN, PEOPLE]),
+    (steps.near_wish, [((3, 1), WISH_ALONE), (2, NO_STEPS + [(3, BadStep, ())])]),
+    (steps.near_split, [POOL, WISH]),
+    (debts.check_debt, [SPLIT, DEBT]),
+    (debts.all_debts, [SPLIT, MOST]),
+    (debts.count_debts, [SPLIT, MOST]),
+    (debts.paid_amounts, [SPLIT, DEBTOR, CREDITOR]),
+    (debts.unpaid_ranges, [SPLIT, DEBTOR, CREDITOR]),
+    (debts.unpaid_debts, [SPLIT, MOST]),
+    (debts.count_unpaid, [SPLIT, MOST]),
+    (payments.can_pay, [SPLIT, DEBT]),
+    (payments.ways_of, [SPLIT, DEBT]),
+    (payments.first_way, [SPLIT, DEBT]),
+    (payments.count_ways, [SPLIT, DEBT]),
+    (payments.way_fault, [SPLIT, DEBT, (WAY, FREE)]),
+    (payments.payment_of, [SPLIT, DEBT, (WAY, [(None, BadWay, ("purses",)), (((1,), ()), BadWay, ("people",))])]),
+    (payments.after_payment, [SPLIT, DEBT, ((2,), pool_faults()), ((1,), pool_faults())]),
+    (payments.exact_payment, [SPLIT, DEBT]),
+    (freedom.greatest_unpaid, [SPLIT, DEBTOR, CREDITOR]),
+    (freedom.pays_every, [SPLIT, DEBTOR, CREDITOR]),
+    (freedom.free_pairs, [SPLIT]),
+    (freedom.pays_all, [SPLIT]),
+    (freedom.least_aid, [SPLIT, DEBTOR, CREDITOR]),
+    (debtrows.check_debts, [SPLIT, ROW]),
+    (debtrows.worths_after, [SPLIT, ROW]),
+    (debtrows.play_row, [SPLIT, ROW]),
+    (debtrows.count_plays, [SPLIT, ROW]),
+    (debtrows.most_paid, [SPLIT, ROW]),
+    (debtrows.worst_play, [SPLIT, ROW]),
+    (debtrows.played_fault, [SPLIT, ROW, (debtrows.Played((SPLIT[0], WAY, ((1, 1, 2), (), ()))), FREE)]),
+    (debtrows.unpaid_fault, [SPLIT, ROW, (debtrows.Unpaid((SPLIT[0],), (0, 2, 1)), FREE)]),
+    (playing.play_debts, [SPLIT, ROW, (playing.choose_evenest, FREE)]),
+    (playing.play_against, [
+        SPLIT, (ask_once, FREE), (playing.choose_evenest, FREE), (3, whole(0, 400, BadTurns))]),
+    (chains.chain_of, [SPLIT, DEBT]),
+    (chains.chain_fault, [SPLIT, DEBT, (chains.Chain((0, 2), (SPLIT[0], WAY)), FREE)]),
+    (bands.check_band, [BAND]),
+    (keyed(bands.is_banded, 1), [SPLIT, BAND]),
+    (keyed(bands.banded_splits, 2), [POOL, PEOPLE, BAND]),
+    (keyed(bands.asked_debts, 1), [SPLIT, BAND, MOST]),
+    (keyed(bands.is_asked, 2), [SPLIT, DEBT, BAND, MOST]),
+    (keyed(lasting.lasting_splits, 2), [POOL, PEOPLE, BAND, MOST]),
+    (keyed(lasting.lasting_wishes, 2), [POOL, PEOPLE, BAND, MOST]),
+    (keyed(lasting.is_lasting, 1), [SPLIT, AROUND, MOST]),
+    (lasting.lasts_for, [POOL, PEOPLE]),
+    (lasting.widest_bands, [POOL, PEOPLE]),
+    (lasting.least_low, [POOL, PEOPLE]),
+    (keyed(books.book_of, 2), [POOL, PEOPLE, BAND, MOST]),
+    (books.book_fault, [(BOOK, FREE)]),
+    (BOOK.answer_to, [
+        (((2,), (1,), (1,)), split_faults() + [(((1, 1), (2,), ()), BadBook, ("split",))]),
+        ((0, 2, 1), [(None, BadDebt, ("debt",)), ((0, 3, 1), BadDebt, ("persons",)), ((0, 2, 3), BadDebt, ("amount",)),
+                     ((1, 2, 1), BadBook, ("debt",))])]),
+    (keyed(ranks.ranks_of, 2), [POOL, PEOPLE, BAND, MOST]),
+    (keyed(ranks.rank_of, 1), [SPLIT, AROUND, MOST]),
+    (keyed(ranks.ranks_fault, 3), [POOL, PEOPLE, ((0,) * 18, FREE), BAND, MOST]),
+    (keyed(breaking.breaking_debt, 1), [SPLIT, AROUND, MOST]),
+    (keyed(breaking.longest_way, 2), [SPLIT, DEBT, AROUND, MOST]),
+    (keyed(chosen_longest, 2), [POOL, PEOPLE, BAND, MOST]),
+    (keyed(breaking.play_breaking, 2), [SPLIT, (playing.choose_evenest, FREE), AROUND, MOST]),
+    (draining.draining_debts, [SPLIT, (0, person_faults(1, 2)), (1, person_faults(0, 2)), (2, person_faults(0, 1))]),
+    (draining.drain_bound, [SPLIT]),
 ]
 # What a function takes in another order of its items, and means the same by.
-UNORDERED = (POOL, SPLIT, KINDS)
+UNORDERED = (POOL, EVEN, SPLIT, KINDS)
 
 
 def turned(good, spec):

@@ -9,7 +9,8 @@ from pathlib import Path
 PACKAGE = Path(__file__).resolve().parent.parent / "anyworths"
 GENERATORS = {
     "all_lots", "lots_with", "all_splits", "all_wishes", "giving_steps", "given_wishes", "splits_for",
-    "all_pools", "all_least", "all_minted",
+    "all_pools", "all_least", "all_minted", "felling_lots", "all_bearing", "all_least_puts", "step_wishes",
+    "all_debts", "unpaid_debts", "ways_of", "banded_splits", "asked_debts",
 }
 FUNCTIONS = {
     "pools": [
@@ -62,6 +63,73 @@ FUNCTIONS = {
         "all_minted(kinds, count, people)", "fewest_from(kinds, total, people)",
         "mint_fault(kinds, total, people, answer)",
     ],
+    "losses": [
+        "check_lost(lost)", "serves_after(pool, people, lost)", "fallen_fault(pool, people, lost, fallen)",
+        "needed_coins(pool, people)", "most_lost(pool, people)", "most_people_after(pool, lost)",
+        "loss_table(pool)", "felling_lots(pool, people, lost)",
+    ],
+    "bearing": [
+        "greatest_bearing(count, people, lost)", "bearing_pool(count, total, people, lost)",
+        "fewest_bearing(total, people, lost)", "next_bearing(pool, people, lost)",
+        "bearing_part(pool, people, lost)", "least_put(pool, people, lost)",
+        "all_bearing(count, total, people, lost)", "all_least_puts(pool, people, lost)",
+    ],
+    "finer": [
+        "finer_heaps(one, other)", "is_finer(one, other)", "heaps_fault(one, other, heaps)",
+        "led_split(split, heaps)", "broken_coin(pool, coin, parts)", "joined_coins(pool, lot)",
+        "may_join(pool, people, lot)", "good_joins(pool, people)",
+    ],
+    "steps": [
+        "step_of(pool)", "check_step(pool, step)", "parted_pool(pool, step)", "times_pool(pool, times)",
+        "serves_steps(pool, people, step)", "serving_step(pool, people)", "near_wish(wish, step)",
+        "near_split(pool, wish)", "step_wishes(total, people, step)",
+    ],
+    "debts": [
+        "check_debt(split, debt)", "all_debts(split, most=None)", "count_debts(split, most=None)",
+        "paid_amounts(split, debtor, creditor)", "unpaid_ranges(split, debtor, creditor)",
+        "unpaid_debts(split, most=None)", "count_unpaid(split, most=None)",
+    ],
+    "payments": [
+        "can_pay(split, debt)", "ways_of(split, debt)", "first_way(split, debt)", "count_ways(split, debt)",
+        "way_fault(split, debt, paid)", "payment_of(split, debt, paid)",
+        "after_payment(split, debt, over, back)", "exact_payment(split, debt)",
+    ],
+    "freedom": [
+        "greatest_unpaid(split, debtor, creditor)", "pays_every(split, debtor, creditor)", "free_pairs(split)",
+        "pays_all(split)", "least_aid(split, debtor, creditor)",
+    ],
+    "debtrows": [
+        "check_debts(split, debts)", "worths_after(split, debts)", "play_row(split, debts)",
+        "count_plays(split, debts)", "most_paid(split, debts)", "worst_play(split, debts)",
+        "played_fault(split, debts, played)", "unpaid_fault(split, debts, unpaid)",
+    ],
+    "playing": [
+        "choose_first(split, debt, ways)", "choose_fewest_moved(split, debt, ways)",
+        "choose_most_ones(split, debt, ways)", "choose_evenest(split, debt, ways)",
+        "choose_most_free(split, debt, ways)", "play_debts(split, debts, choose)",
+        "play_against(split, ask, choose, turns)",
+    ],
+    "chains": ["chain_of(split, debt)", "chain_fault(split, debt, chain)"],
+    "bands": [
+        "check_band(band)", "is_banded(split, *, band=None)", "banded_splits(pool, people, *, band=None)",
+        "asked_debts(split, *, band=None, most=None)", "is_asked(split, debt, *, band=None, most=None)",
+    ],
+    "lasting": [
+        "lasting_splits(pool, people, *, band=None, most=None)",
+        "lasting_wishes(pool, people, *, band=None, most=None)", "is_lasting(split, *, band=None, most=None)",
+        "lasts_for(pool, people)", "widest_bands(pool, people)", "least_low(pool, people)",
+    ],
+    "books": ["book_of(pool, people, *, band=None, most=None)", "book_fault(book)", "book_chooser(book)"],
+    "ranks": [
+        "ranks_of(pool, people, *, band=None, most=None)", "rank_of(split, *, band=None, most=None)",
+        "ranks_fault(pool, people, ranks, *, band=None, most=None)",
+    ],
+    "breaking": [
+        "breaking_debt(split, *, band=None, most=None)", "longest_way(split, debt, *, band=None, most=None)",
+        "longest_chooser(pool, people, *, band=None, most=None)",
+        "play_breaking(split, choose, *, band=None, most=None)",
+    ],
+    "draining": ["draining_debts(split, holder, emptied, helper)", "drain_bound(split)"],
 }
 RESULTS = {
     "serving": {"Unserved": ("place", "wish")},
@@ -70,7 +138,15 @@ RESULTS = {
     "rations": {"Short": ("place", "ration"), "Handed": ("lots", "rest"), "Lacking": ("lacks", "rest")},
     "leastpools": {"NoPool": ("low", "high")},
     "mints": {"Minted": ("pool", "layers"), "NoMint": ("layers",)},
+    "losses": {"Fallen": ("lot", "coin", "wish")},
+    "payments": {"Payment": ("over", "back")},
+    "debtrows": {"Played": ("splits",), "Blocked": ("layers",), "Unpaid": ("splits", "debt")},
+    "chains": {"Chain": ("persons", "splits")},
+    "books": {"Book": ("pool", "people", "band", "most", "splits", "answers")},
+    "breaking": {"Collapse": ("debts", "splits")},
 }
+# What classes have beside __init__ and __eq__.
+METHODS = {"Book": ("answer_to(self, split, debt)",)}
 
 
 def module(name):
@@ -111,6 +187,10 @@ class Interface(unittest.TestCase):
             self.assertEqual(tuple(inspect.signature(result).parameters), attributes)
             self.assertIn("__init__", vars(result))
             self.assertIn("__eq__", vars(result))
+            for signature in METHODS.get(result.__name__, ()):
+                word = signature.partition("(")[0]
+                self.assertIn(word, vars(result))
+                self.assertEqual(word + str(inspect.signature(getattr(result, word))), signature)
 
 
 class Results(unittest.TestCase):
@@ -118,7 +198,7 @@ class Results(unittest.TestCase):
 
     def test_they_keep_the_very_things_and_check_nothing(self):
         for result, attributes in results():
-            things = [[1, [2]], object()][: len(attributes)]
+            things = [[1, [2]], object(), None, {}, (3,), True][: len(attributes)]
             made = result(*things)
             self.assertEqual(list(vars(made)), list(attributes))
             for attribute, thing in zip(attributes, things):
@@ -129,7 +209,7 @@ class Results(unittest.TestCase):
 
     def test_they_are_equal_exactly_if_all_attributes_are(self):
         for result, attributes in results():
-            values = [(1, 2), 3][: len(attributes)]
+            values = [(1, 2), 3, None, "5", (), 6][: len(attributes)]
             self.assertTrue(result(*values) == result(*values))
             self.assertFalse(result(*values) != result(*values))
             for at in range(len(values)):
@@ -139,7 +219,7 @@ class Results(unittest.TestCase):
                 self.assertTrue(result(*values) != result(*others))
 
     def test_they_are_equal_to_nothing_else(self):
-        made = [result(*[(), ()][: len(attributes)]) for result, attributes in results()]
+        made = [result(*[()] * len(attributes)) for result, attributes in results()]
         for at, one in enumerate(made):
             for other in made[:at] + made[at + 1:] + [None, (), ((), ()), [], 0, "", True, object()]:
                 self.assertFalse(one == other)

@@ -5,6 +5,7 @@ import builtins
 import re
 import unittest
 import warnings
+from functools import cache
 from pathlib import Path
 
 PACKAGE = Path(__file__).resolve().parent.parent / "anyworths"
@@ -75,6 +76,13 @@ def top_names(tree):
 
 def imported_names(tree):
     return [alias.name for row in tree.body if isinstance(row, ast.ImportFrom) for alias in row.names]
+
+
+@cache
+def own_methods():
+    """The names of all methods of the package's classes, those with two underscores apart."""
+    methods = [row.name for _, node in nodes(ast.ClassDef) for row in node.body if isinstance(row, ast.FunctionDef)]
+    return {word for word in methods if not word.startswith("__")}
 
 
 def parents(tree):
@@ -216,7 +224,11 @@ class Seen(unittest.TestCase):
             methods = [row.name for row in node.body if isinstance(row, ast.FunctionDef)]
             self.assertEqual(len(methods), len(set(methods)))
             for method in methods:
-                self.assertIn(method, ("__init__", "__eq__"))
+                if method.startswith("__"):
+                    self.assertIn(method, ("__init__", "__eq__"))
+                else:
+                    # A name that builtin values have as a method is not one of these.
+                    self.assertFalse(any(hasattr(thing, method) for thing in ("", 0, [], {}, set(), b"")), method)
 
     def test_l20_is(self):
         for name, node in nodes(ast.Compare):
@@ -235,6 +247,8 @@ class Seen(unittest.TestCase):
         }
         for name, tree in TREES.items():
             around = parents(tree)
+            defined = [node.name for node in ast.walk(tree) if isinstance(node, ast.FunctionDef)]
+            self.assertEqual(len([word for word in defined if word in words]), len(set(defined) & words), name)
             for node in ast.walk(tree):
                 if isinstance(node, ast.Name) and node.id in words:
                     call = around[node]
@@ -263,7 +277,7 @@ class Seen(unittest.TestCase):
     def test_l25_methods(self):
         for name, node in nodes(ast.Call):
             if isinstance(node.func, ast.Attribute):
-                self.assertIn(node.func.attr, METHODS, (name, node.lineno))
+                self.assertIn(node.func.attr, METHODS | own_methods(), (name, node.lineno))
                 self.assertEqual(node.keywords, [])
 
     def test_l26_attributes(self):
@@ -272,7 +286,7 @@ class Seen(unittest.TestCase):
             for thing in ("", 0, [], {}, set(), b""):
                 self.assertFalse(hasattr(thing, word), word)
         for name, node in nodes(ast.Attribute):
-            if isinstance(node.ctx, ast.Load) and node.attr not in METHODS:
+            if isinstance(node.ctx, ast.Load) and node.attr not in METHODS | own_methods():
                 self.assertIn(node.attr, assigned, (name, node.lineno))
 
     def test_l27_no_warnings(self):
