@@ -2,6 +2,7 @@
 
 from anyworths.debtrows import Played, play_row, played_fault
 from anyworths.debts import check_debt
+from anyworths.pools import are_numbers
 from anyworths.splits import check_purses
 
 
@@ -69,4 +70,4 @@ def chain_fault(split, debt, chain):
 
 def is_one_of(thing, chains):
     """Whether a thing is one of these tuples, with no True in the place of 1."""
-    return isinstance(thing, tuple) and thing in chains and not any([isinstance(person, bool) for person in thing])
+    return isinstance(thing, tuple) and are_numbers(thing) and thing in chains

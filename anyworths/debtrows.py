@@ -3,8 +3,8 @@
 from anyworths.debts import debt_at, sums_in
 from anyworths.debttext import MOST_DEBTS
 from anyworths.errors import BadDebt, BadDebts, BadSplit, TooMany
-from anyworths.payments import way_fault, way_word, ways_in
-from anyworths.pools import is_row
+from anyworths.payments import way_fault, way_word, ways_in, with_purses
+from anyworths.pools import are_numbers, is_row
 from anyworths.searching import MOST_LISTED
 from anyworths.splits import check_purses
 
@@ -86,12 +86,19 @@ def counted_layers(purses, row):
 
 def counted_ways(layer, debt):
     """How many plays lead to each way of a debt from a layer's splits."""
-    # All splits of a layer have the same worths, so their ways share what the creditor may own.
+    debtor, creditor, amount = debt
+    # Splits that are alike when the debtor holds the coins of both have the same ways, and others have none in common.
+    together = {}
+    for purses, plays in layer.items():
+        # This is the same for all, since all splits of a layer have the same worths.
+        wanted = sum(purses[creditor]) + amount
+        pooled = with_purses(purses, debtor, tuple(sorted(purses[debtor] + purses[creditor])), creditor, ())
+        together[pooled] = together.get(pooled, 0) + plays
     lots = {}
     after = {}
-    for purses, plays in layer.items():
-        for way in ways_in(purses, debt, lots):
-            after[way] = after.get(way, 0) + plays
+    for pooled, plays in together.items():
+        for way in ways_in(pooled, (debtor, creditor, wanted), lots):
+            after[way] = plays
         if len(after) > MOST_LISTED:
             raise TooMany(MOST_LISTED)
     return after
@@ -194,5 +201,5 @@ def unpaid_fault(split, debts, unpaid):
 
 
 def is_same_debt(thing, debt):
-    """Whether a thing is this very tuple, with no True in the place of 1."""
-    return isinstance(thing, tuple) and thing == debt and not any([isinstance(item, bool) for item in thing])
+    """Whether a thing is this tuple, with no True in the place of 1."""
+    return isinstance(thing, tuple) and are_numbers(thing) and thing == debt

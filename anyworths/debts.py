@@ -2,7 +2,7 @@
 
 from anyworths.errors import BadDebt
 from anyworths.lots import sums_of
-from anyworths.pools import check_amount, is_number, is_row, is_whole
+from anyworths.pools import are_numbers, check_amount, is_row, is_whole
 from anyworths.splits import check_purses
 
 
@@ -18,7 +18,7 @@ def sums_in(purses):
 
 def debt_at(worths, debt):
     """A debt among persons of these worths as a tuple."""
-    if not is_row(debt, 3, 3) or not all([is_number(thing) for thing in debt]):
+    if not is_row(debt, 3, 3) or not are_numbers(debt):
         raise BadDebt("debt")
     debtor, creditor, amount = debt
     check_couple(len(worths), debtor, creditor)

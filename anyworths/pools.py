@@ -19,6 +19,11 @@ def is_whole(thing, low, high):
     return is_number(thing) and low <= thing <= high
 
 
+def are_numbers(things):
+    """Whether all things of a sequence are whole numbers."""
+    return all([is_number(thing) for thing in things])
+
+
 def is_row(thing, least, most):
     """Whether a thing is a sequence of at least and at most so many items."""
     return isinstance(thing, (list, tuple)) and least <= len(thing) <= most

@@ -96,8 +96,7 @@ def serving_step(pool, people):
 
 def is_served_step(coins, people):
     """Whether every wish on the step of these coins has a split."""
-    step = step_in(coins)
-    return step == 0 or len(failing_in(parted(coins, step), people)) == 0
+    return len(failing_in(parted(coins, step_in(coins)), people)) == 0
 
 
 def near_wish(wish, step):

@@ -95,8 +95,12 @@ class Chains(Case):
 
     def test_too_many_before_a_play_is_found(self):
         # Nothing odd can be paid with even coins alone, and by the third person there are too many splits.
-        purses = ((2, 4, 6, 8, 10, 12), (), (1, 3, 5, 7, 9, 11))
-        for amount in (17, 19, 21):
+        evens, odds = (2, 4, 6, 8, 10, 12), (1, 3, 5, 7, 9, 11)
+        # Of the first two some layer has 408 splits.
+        for purses, amount in (
+            ((evens, (), (1, 3, 5, 7, 9, 13)), 19), (((2, 4, 6, 8, 10, 14), (), odds), 17), ((evens, (), odds), 17),
+            ((evens, (), odds), 19), ((evens, (), odds), 21),
+        ):
             debt = (0, 1, amount)
             self.fails(TooMany, (400,), chain_of, purses, debt)
             split = purses + ((),)
@@ -106,6 +110,14 @@ class Chains(Case):
                 splits.append(next(ways_of(splits[-1], (one, other, amount))))
             self.fails(TooMany, (400,), chain_fault, split, debt, Chain((0, 2, 3, 1), splits))
             self.assertEqual(chain_fault(split, debt, Chain((0, 2, 3, 1), splits[::-1])), "splits")
+
+    def test_just_four_hundred_splits(self):
+        split, debt = ((2, 4, 8, 10, 12, 14), (), (1, 3, 5, 7, 9, 13)), (0, 1, 23)
+        layer = {after for way in ways_of(split, (0, 2, 23)) for after in ways_of(way, (2, 1, 23))}
+        self.assertEqual(len(layer), 400)
+        told = chain_of(split, debt)
+        self.same(told.persons, (0, 2, 1))
+        self.assertIsNone(chain_fault(split, debt, told))
 
     def test_no_more_chains_are_asked_than_are_needed(self):
         for split, debts in MANY_ROWS:

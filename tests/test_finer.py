@@ -69,6 +69,9 @@ class Finer(Case):
             # Four odd heaps would need four odd coins.
             self.assertIsNone(finer_heaps((2,) * 5 + (4,) * 5 + (3, 5), (7, 7, 7, 17)))
             self.assertIsNone(finer_heaps(tuple(range(100, 124, 2)), (333,) * 4))
+            # Nothing odd comes of even coins, in whatever order they are put.
+            self.assertIsNone(finer_heaps(tuple(range(2, 26, 2)), (77, 79)))
+            self.assertIsNone(finer_heaps(tuple(range(2, 26, 2)), (1, 77, 78)))
 
     def test_each_word_of_the_judge(self):
         one, other = (1, 1, 2, 3), (3, 4)

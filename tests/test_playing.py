@@ -1,5 +1,6 @@
 """5.11 and 5.12: choosers, and debts that they pay."""
 
+import copy
 import unittest
 from collections import Counter
 
@@ -7,7 +8,7 @@ from anyworths.debtrows import Played, Unpaid
 from anyworths.errors import BadChoice, BadDebt, BadSplit, BadTurns
 from anyworths.playing import choose_evenest, choose_fewest_moved, choose_first, choose_most_free, choose_most_ones
 from anyworths.playing import play_against, play_debts
-from tests.roads import Case, debts_by_worths, has_list, pools_up_to, splits_in_order, ways_by_splits
+from tests.roads import Case, debts_by_worths, has_list, listed, pools_up_to, splits_in_order, ways_by_splits
 from tests.test_debtrows import ROW, ROWS, SPLIT
 
 CHOOSERS = (choose_first, choose_fewest_moved, choose_most_ones, choose_evenest, choose_most_free)
@@ -61,6 +62,14 @@ class Choosers(Case):
 
     def test_the_most_free(self):
         self.assertGreater(self.check(choose_most_free, lambda _, debt, way: unpaid(way)), 10)
+
+    def test_what_they_are_told_is_the_same_afterwards(self):
+        for choose in CHOOSERS:
+            for split, debt, ways in CASES[:20]:
+                told = [listed(split), list(debt), [way for way in ways]]
+                before = copy.deepcopy(told)
+                choose(*told)
+                self.assertEqual(told, before)
 
     def test_of_one_way_it_is_that_one(self):
         for choose in CHOOSERS:

@@ -5,13 +5,13 @@ from itertools import product
 from math import gcd
 
 from anyworths.errors import BadPool, BadStep, BadWish, TooMany
-from anyworths.searching import any_split
+from anyworths.searching import NoSplit, any_split
 from anyworths.serving import Unserved, serves
 from anyworths.steps import check_step, near_split, near_wish, parted_pool, serves_steps, serving_step
 from anyworths.steps import step_of, step_wishes, times_pool
 from tests.roads import Case, at_once, pool_by_purses, pools_up_to, wishes_by_bars, worths_by_owners
 from tests.roads import worths_by_purses
-from tests.test_searching import MANY_LAYERS
+from tests.test_searching import JUST_LAYERS, MANY_LAYERS
 
 COIN = 10 ** 9
 AMOUNT = 12 * COIN
@@ -194,6 +194,10 @@ class Splits(Case):
             self.fails(TooMany, (400,), near_split, pool, wish)
             doubled = times_pool(pool, 2)
             self.fails(TooMany, (400,), near_split, doubled, [number * 2 for number in wish])
+        for pool, wish in JUST_LAYERS:
+            self.assertIsNone(serving_step(pool, len(wish)))
+            told = near_split(pool, wish)
+            self.assertEqual(told is None, isinstance(any_split(pool, wish), NoSplit))
 
 
 if __name__ == "__main__":
