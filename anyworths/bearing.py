@@ -95,6 +95,7 @@ def bearing_part(pool, people, lost):
     """The greatest lot of the pool that bears the loss ([4.7])."""
     coins = check_pool(pool)
     check_people(people, LEAST_PEOPLE)
+    # No place falls if the pool bears the loss, and up to None are all coins.
     return coins[:falling_place(coins, people, check_lost(lost))]
 
 

@@ -12,9 +12,10 @@ AMOUNT = 12 * COIN
 BANDS = (None, (0, None), (1, None), (0, 1), (0, 2), (1, 2), (1, 3), (2, 2), (0, 0), (3, 4), (2, None), (50, 60))
 SPLITS = [split for pool in pools_up_to(3, 3) for people in (1, 2, 3) for split in splits_in_order(pool, people)]
 SPLITS += [split for pool in pools_up_to(2, 3) for people in (4, 5) for split in splits_in_order(pool, people)]
-# Pools with just 400 splits, and with more.
+# Pools with just 400 splits, and with more: of the first two 405, as no pool has 401 to 404.
 JUST = [((1, 2, 3, 4, 5, 5, 5, 5, 6, 6, 6, 6), 2), ((1, 2, 2, 3, 3), 4), ((1, 1, 1, 2, 2, 2), 4)]
-MANY = [((1, 2, 3, 4, 5, 6, 7, 8, 9), 2), ((1, 1, 2, 2, 3, 3, 4, 4, 5, 6, 6, 6), 2), ((1, 1, 1, 1, 2, 3, 4, 5), 3),
+MANY = [((1, 1, 2, 2, 3, 3, 4, 4, 5, 5, 5, 5), 2), ((1, 2, 3, 4, 4, 4, 4), 3), ((1, 2, 3, 4, 5, 6, 7, 8, 9), 2),
+        ((1, 1, 1, 1, 2, 3, 4, 5), 3),
         ((1, 1, 1, 1, 1, 2), 5), ((1, 2, 3, 4), 5)]
 
 
