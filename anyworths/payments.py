@@ -115,9 +115,15 @@ def after_payment(split, debt, over, back):
         raise BadPayment("back")
     if sum(given) != sum(returned) + amount:
         raise BadPayment("amount")
-    coins = tuple(sorted(rest_of(purses[debtor], given) + returned))
-    others = tuple(sorted(rest_of(purses[creditor], returned) + given))
-    return with_purses(purses, debtor, coins, creditor, others)
+    return swapped(purses, (debtor, creditor, given, returned))
+
+
+def swapped(purses, told):
+    """The split behind (one, other, lot, back): the lot goes from one to other, back the other way."""
+    one, other, lot, back = told
+    coins = tuple(sorted(rest_of(purses[one], lot) + back))
+    others = tuple(sorted(rest_of(purses[other], back) + lot))
+    return with_purses(purses, one, coins, other, others)
 
 
 def exact_payment(split, debt):

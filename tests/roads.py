@@ -206,6 +206,80 @@ def plays_by_search(split, debts):
     return [(split,) + play for way in ways_by_splits(split, debts[0]) for play in plays_by_search(way, debts[1:])]
 
 
+def handed(split, one, other, lot, back):
+    """The split when one has handed over the lot and got back the other, by counts; None if they cannot."""
+    purses = [Counter(purse) for purse in split]
+    purses[one].subtract(lot)
+    purses[other].subtract(back)
+    if any(many < 0 for purse in purses for many in purse.values()):
+        return None
+    purses[one].update(back)
+    purses[other].update(lot)
+    return tuple(tuple(sorted(purse.elements())) for purse in purses)
+
+
+@cache
+def exchanges_by_lots(split):
+    """All exchanges of a split, by all pairs of lots, in their order."""
+    return [
+        (one, other, lot, back)
+        for one in range(len(split)) for other in range(one + 1, len(split))
+        for lot in lots_in_order(split[one]) for back in lots_in_order(split[other])
+        if sum(lot) == sum(back) > 0 and lot != back
+    ]
+
+
+@cache
+def least_by_pairs(lot, back):
+    """Whether no other pair of lots within these two has equal sums above 0."""
+    return all(
+        (one, other) == (lot, back)
+        for one in lots_in_order(lot) for other in lots_in_order(back) if sum(one) == sum(other) > 0
+    )
+
+
+@cache
+def least_exchanges(split):
+    """All least exchanges of a split, in their order."""
+    return [exchange for exchange in exchanges_by_lots(split) if least_by_pairs(*exchange[2:])]
+
+
+@cache
+def steps_by_least(split):
+    """How many least exchanges lead to each split of the piece, at least."""
+    steps = {split: 0}
+    rows = [split]
+    for now in rows:
+        for exchange in least_exchanges(now):
+            there = handed(now, *exchange)
+            if there not in steps:
+                steps[there] = steps[now] + 1
+                rows.append(there)
+    return steps
+
+
+@cache
+def piece_by_search(split):
+    """All splits to which any exchanges lead, in their order."""
+    found = {split}
+    rows = [split]
+    for now in rows:
+        for exchange in exchanges_by_lots(now):
+            there = handed(now, *exchange)
+            if there not in found:
+                found.add(there)
+                rows.append(there)
+    return tuple(sorted(found, key=split_key))
+
+
+def small_splits(coins=3, greatest=3, step=1):
+    """Splits of small pools among one to five people."""
+    return [
+        split for pool in pools_up_to(coins, greatest) for people in range(1, 6)
+        for split in splits_in_order(pool, people)[::1 if people < 4 else 7]
+    ][::step]
+
+
 def listed(value):
     """A copy of a value with lists in place of all tuples."""
     if isinstance(value, (list, tuple)):

@@ -3,12 +3,14 @@
 import copy
 import unittest
 
-from anyworths import bands, bearing, books, breaking, chains, debtrows, debts, debttext, draining, finer, freedom
-from anyworths import greedy, holding, lasting, leastpools, losses, lots, mints, nextcoins, payments, playing, pools
-from anyworths import ranks, rations, searching, serving, splits, splittext, steps, wishes
-from anyworths.errors import BadAmount, BadBand, BadBook, BadCoin, BadCount, BadDebt, BadDebts, BadHeaps, BadKinds
-from anyworths.errors import BadLost, BadLot, BadMost, BadNumber, BadOrder, BadParts, BadPeople, BadPerson, BadPool
-from anyworths.errors import BadRation, BadSplit, BadStep, BadText, BadTotal, BadTurns, BadUnlike, BadWay, BadWish
+from anyworths import bands, bearing, books, breaking, chains, coming, debtrows, debts, debttext, draining, exchanges
+from anyworths import finer, freedom, going, greedy, holding, lasting, leastpools, leaving, losses, lots, mints, moving
+from anyworths import nextcoins, payments, pieceranks, pieces, playing, pools, ranks, rations, searching, serving
+from anyworths import splits, splittext, steps, wishes, withpaying
+from anyworths.errors import BadAmount, BadBand, BadBook, BadCoin, BadCount, BadDebt, BadDebts, BadExchange, BadHeaps
+from anyworths.errors import BadKinds, BadLost, BadLot, BadLots, BadMost, BadMove, BadNumber, BadOrder, BadParts
+from anyworths.errors import BadPeople, BadPerson, BadPool, BadRation, BadSplit, BadSplits, BadStep, BadText, BadTotal
+from anyworths.errors import BadTurns, BadUnlike, BadWay, BadWish
 from tests.roads import Case, has_list, listed, run
 
 COIN = 10 ** 9
@@ -140,6 +142,57 @@ def band_faults():
     return faults
 
 
+def exchange_faults():
+    """The wrong things in the place of an exchange of the split (2,), (), (1, 1)."""
+    wrong = NO_SEQUENCES + ((), (0, 2, (2,)), (0, 2, (2,), (1, 1), ()))
+    faults = [(thing, BadExchange, (0, "exchange")) for thing in wrong]
+    for thing in NO_NUMBERS + (-1, 3):
+        faults.append(((thing, 2, None, None), BadExchange, (0, "persons")))
+        faults.append(([0, thing, None, None], BadExchange, (0, "persons")))
+    for thing, _, _ in pool_faults():
+        faults.append(((0, 2, thing, None), BadExchange, (0, "lot")))
+        faults.append(([0, 2, (2,), thing], BadExchange, (0, "back")))
+    for thing, word in (((2, 0, (), ()), "persons"), ((0, 2, (1,), ()), "lot"), ((0, 2, (2,), (2,)), "back"),
+                        ((0, 2, (2,), (1,)), "sums"), ([0, 2, [], ()], "sums")):
+        faults.append((thing, BadExchange, (0, word)))
+    return faults
+
+
+def exchanges_faults():
+    """The wrong things in the place of exchanges of the split (2,), (), (1, 1)."""
+    there = ((0, 2, (2,), (1, 1)), (0, 2, (1, 1), (2,)))
+    faults = [(thing, BadExchange, (0, "many")) for thing in NO_SEQUENCES + (there * 200 + there[:1], [None] * 401)]
+    for thing, _, (_, what) in exchange_faults():
+        faults.append(([thing, None], BadExchange, (0, what)))
+        faults.append(((there[0], list(there[1]), thing, None), BadExchange, (2, what)))
+    return faults
+
+
+def moves_faults():
+    """The wrong things in the place of moves of the split (2,), (), (1, 1)."""
+    there = ((2, 0, 1), [2, 1, 0])
+    faults = [(thing, BadMove, (0, "many")) for thing in NO_SEQUENCES + (there * 51, [None] * 101)]
+    wrong = [(thing, "move") for thing in NO_SEQUENCES + ((), (2, 0), (2, 0, 1, 0))]
+    for thing in NO_NUMBERS:
+        wrong += [((thing, 9, 9), "move"), ((1, thing, 0), "move"), ([1, 2, thing], "move")]
+    wrong += [((9, 0, 0), "persons"), ((2, 0, 3), "persons"), ([9, -1, 0], "persons"), ((1, 0, 1), "coin"), (
+        (0, 0, 1), "coin")]
+    for thing, word in wrong:
+        faults.append(([thing, None], BadMove, (0, word)))
+        faults.append((there + (thing, None), BadMove, (2, word)))
+    return faults
+
+
+def lots_faults(most, many):
+    """The wrong things in the place of at most so many newcomers' lots to a pool of so many coins."""
+    faults = [(thing, BadLots, (0,)) for thing in NO_SEQUENCES + (((),) * (most + 1), [None] * (most + 1))]
+    for thing, _, _ in pool_faults():
+        faults.append(([thing, None], BadLots, (0,)))
+        faults.append((((1,), thing), BadLots, (1,)))
+    faults.append(([(1,) * (12 - many), (9,)], BadLots, (1,)))
+    return faults
+
+
 POOL = ((1, 1, 2), pool_faults())
 PEOPLE = (3, whole(1, 5, BadPeople))
 TWO_PEOPLE = (3, whole(2, 5, BadPeople))
@@ -201,6 +254,17 @@ def person_faults(*others):
     return [(thing, BadPerson, ()) for thing in NO_NUMBERS + (-1, 3) + others]
 
 
+EXCHANGE = ((0, 2, (2,), (1, 1)), exchange_faults())
+PERSON = (2, whole(0, 2, BadPerson))
+WORTH = (2, whole(0, 4, BadAmount))
+# Another split of the same pool, and what is none.
+SECOND = (((1,), (), (1, 2)), split_faults() + [
+    (((1, 1, 2), ()), BadSplits, ("people",)), (((2,), (), (2,)), BadSplits, ("pool",)),
+    ([[], (), ()], BadSplits, ("pool",))])
+RANKS = pieceranks.ranks_with((1, 1, 2), 3)
+# What check_split tells of splits of this pool among three people.
+NO_SPLITS = [(None, BadSplit, (0, "many")), (((1,), (1, 2)), BadSplit, (0, "many")), ([(), [0], ()], BadSplit, (
+    1, "purse")), (((1,), (2,), (2,)), BadSplit, (2, "coin")), (((1,), (2,), ()), BadSplit, (3, "lacking"))]
 BOOK = books.book_of((1, 1, 2), 3, band=(1, None))
 CALLS = [
     (pools.check_pool, [POOL]),
@@ -383,6 +447,44 @@ CALLS = [
     (keyed(breaking.play_breaking, 2), [SPLIT, (playing.choose_evenest, FREE), AROUND, MOST]),
     (draining.draining_debts, [SPLIT, (0, person_faults(1, 2)), (1, person_faults(0, 2)), (2, person_faults(0, 1))]),
     (draining.drain_bound, [SPLIT]),
+    (exchanges.check_exchange, [SPLIT, EXCHANGE]),
+    (exchanges.after_exchange, [SPLIT, EXCHANGE]),
+    (exchanges.after_exchanges, [SPLIT, ((EXCHANGE[0], (0, 2, (1, 1), (2,))), exchanges_faults())]),
+    (exchanges.is_least, [SPLIT, EXCHANGE]),
+    (exchanges.exchanges_of, [SPLIT]),
+    (exchanges.least_parts, [SPLIT, EXCHANGE]),
+    (exchanges.resplits, [
+        SPLIT, (0, [(thing, BadExchange, (0, "persons")) for thing in NO_NUMBERS + (-1, 3, 2)]),
+        (2, [(thing, BadExchange, (0, "persons")) for thing in NO_NUMBERS + (-1, 3, 0)])]),
+    (pieces.piece_of, [SPLIT]),
+    (pieces.pieces_with, [POOL, WISH]),
+    (pieces.all_pieces, [POOL, PEOPLE]),
+    (pieces.joined_by, [SPLIT, (((1, 1), (), (2,)), split_faults())]),
+    (pieces.piece_fault, [SPLIT, ((((2,), (), (1, 1)), ((1, 1), (), (2,))), FREE)]),
+    (withpaying.paid_with, [SPLIT, DEBT]),
+    (withpaying.paid_with_fault, [SPLIT, DEBT, (withpaying.PaidWith((), SPLIT[0], WAY), FREE)]),
+    (withpaying.ways_with, [SPLIT, DEBT]),
+    (withpaying.unpaid_with, [SPLIT, MOST]),
+    (withpaying.always_paid, [EVEN, PEOPLE]),
+    (lambda pool, people, most: pieceranks.ranks_with(pool, people, most=most), [EVEN, PEOPLE, MOST]),
+    (RANKS.rank_at, [(((2,), (), (1, 1)), NO_SPLITS)]),
+    (RANKS.breaking_at, [(((2,), (), (1, 1)), NO_SPLITS)]),
+    (pieceranks.break_with, [(RANKS, FREE), (((2,), (), (1, 1)), NO_SPLITS), (playing.choose_evenest, FREE)]),
+    (leaving.taken_lot, [POOL, WORTH]),
+    (leaving.lots_leaving, [POOL, PEOPLE, WORTH]),
+    (leaving.worths_leaving, [POOL, PEOPLE]),
+    (leaving.leaves, [POOL, TWO_PEOPLE, WORTH]),
+    (leaving.stays_fault, [POOL, TWO_PEOPLE, WORTH, (leaving.Stays(()), FREE)]),
+    (leaving.all_leave, [POOL, WISH, ((2, 0, 1), order_faults(3))]),
+    (leaving.first_leavers, [POOL, WISH]),
+    (going.may_go, [SPLIT, PERSON]),
+    (going.goes_with, [SPLIT, PERSON]),
+    (coming.comes, [POOL, (3, whole(1, 4, BadPeople)), LOT]),
+    (coming.come_all, [POOL, PEOPLE, (((1,), (2,)), lots_faults(2, 3))]),
+    (coming.takes_over, [POOL, PEOPLE, WORTH, LOT]),
+    (moving.fewest_moved, [SPLIT, SECOND]),
+    (moving.moves_between, [SPLIT, SECOND]),
+    (moving.after_moves, [SPLIT, (((2, 0, 1), (1, 2, 0)), moves_faults())]),
 ]
 # What a function takes in another order of its items, and means the same by.
 UNORDERED = (POOL, EVEN, SPLIT, KINDS)

@@ -10,7 +10,8 @@ PACKAGE = Path(__file__).resolve().parent.parent / "anyworths"
 GENERATORS = {
     "all_lots", "lots_with", "all_splits", "all_wishes", "giving_steps", "given_wishes", "splits_for",
     "all_pools", "all_least", "all_minted", "felling_lots", "all_bearing", "all_least_puts", "step_wishes",
-    "all_debts", "unpaid_debts", "ways_of", "banded_splits", "asked_debts",
+    "all_debts", "unpaid_debts", "ways_of", "banded_splits", "asked_debts", "exchanges_of", "resplits", "ways_with",
+    "lots_leaving",
 }
 FUNCTIONS = {
     "pools": [
@@ -130,6 +131,28 @@ FUNCTIONS = {
         "play_breaking(split, choose, *, band=None, most=None)",
     ],
     "draining": ["draining_debts(split, holder, emptied, helper)", "drain_bound(split)"],
+    "exchanges": [
+        "check_exchange(split, exchange)", "after_exchange(split, exchange)", "after_exchanges(split, exchanges)",
+        "is_least(split, exchange)", "exchanges_of(split)", "least_parts(split, exchange)",
+        "resplits(split, one, other)",
+    ],
+    "pieces": [
+        "piece_of(split)", "pieces_with(pool, wish)", "all_pieces(pool, people)", "joined_by(split, other)",
+        "piece_fault(split, piece)",
+    ],
+    "withpaying": [
+        "paid_with(split, debt)", "paid_with_fault(split, debt, paid)", "ways_with(split, debt)",
+        "unpaid_with(split, most=None)", "always_paid(pool, people)",
+    ],
+    "pieceranks": ["ranks_with(pool, people, *, most=None)", "break_with(ranks, split, choose)"],
+    "leaving": [
+        "taken_lot(pool, worth)", "lots_leaving(pool, left, worth)", "worths_leaving(pool, left)",
+        "leaves(pool, people, worth)", "stays_fault(pool, people, worth, stays)", "all_leave(pool, wish, order)",
+        "first_leavers(pool, wish)",
+    ],
+    "going": ["may_go(split, person)", "goes_with(split, person)"],
+    "coming": ["comes(pool, people, lot)", "come_all(pool, people, lots)", "takes_over(pool, people, worth, lot)"],
+    "moving": ["fewest_moved(split, other)", "moves_between(split, other)", "after_moves(split, moves)"],
 }
 RESULTS = {
     "serving": {"Unserved": ("place", "wish")},
@@ -144,9 +167,20 @@ RESULTS = {
     "chains": {"Chain": ("persons", "splits")},
     "books": {"Book": ("pool", "people", "band", "most", "splits", "answers")},
     "breaking": {"Collapse": ("debts", "splits")},
+    "pieces": {"Apart": ("piece",)},
+    "withpaying": {
+        "PaidWith": ("exchanges", "purses", "way"), "Closed": ("piece",), "NeverPaid": ("purses", "debt"),
+    },
+    "pieceranks": {"PieceRanks": ("pool", "people", "pieces", "ranks", "debts")},
+    "leaving": {"Stays": ("rows",)},
+    "going": {"Gone": ("exchanges", "lot", "purses"), "Kept": ("piece",)},
+    "coming": {"Halts": ("place", "unserved")},
 }
 # What classes have beside __init__ and __eq__.
-METHODS = {"Book": ("answer_to(self, split, debt)",)}
+METHODS = {
+    "Book": ("answer_to(self, split, debt)",),
+    "PieceRanks": ("rank_at(self, split)", "breaking_at(self, split)", "__len__(self)", "__iter__(self)"),
+}
 
 
 def module(name):

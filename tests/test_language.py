@@ -225,7 +225,7 @@ class Seen(unittest.TestCase):
             self.assertEqual(len(methods), len(set(methods)))
             for method in methods:
                 if method.startswith("__"):
-                    self.assertIn(method, ("__init__", "__eq__"))
+                    self.assertIn(method, ("__init__", "__eq__", "__len__", "__iter__", "__enter__", "__exit__"))
                 else:
                     # A name that builtin values have as a method is not one of these.
                     self.assertFalse(any(hasattr(thing, method) for thing in ("", 0, [], {}, set(), b"")), method)
@@ -270,6 +270,8 @@ class Seen(unittest.TestCase):
                 made = isinstance(node, ast.SetComp) or (isinstance(node, ast.Name) and node.id in ("set", "frozenset"))
                 if made:
                     place = around[node] if isinstance(node, ast.SetComp) else around[around[node]]
+                    while isinstance(place, ast.BinOp) and isinstance(place.op, (ast.BitAnd, ast.BitOr, ast.Sub)):
+                        place = around[place]
                     self.assertIsInstance(place, ast.Call, (name, node.lineno))
                     self.assertIn(place.func.id, ("sorted", "len"))
                     self.assertEqual(place.keywords, [])
