@@ -98,6 +98,11 @@ def joined_pools(one, other):
     return tuple(sorted(coins))
 
 
+def lot_of(counts):
+    """The lot with so many coins of each worth, by couples (worth, how many)."""
+    return tuple([worth for worth, many in counts for _ in range(many)])
+
+
 def beyond(coins, others):
     """The coins that are more than those of the others, worth by worth."""
     left = list(others)

@@ -3,14 +3,15 @@
 import copy
 import unittest
 
-from anyworths import bands, bearing, books, breaking, chains, coming, debtrows, debts, debttext, draining, exchanges
-from anyworths import finer, freedom, going, greedy, holding, lasting, leastpools, leaving, losses, lots, mints, moving
-from anyworths import nextcoins, payments, pieceranks, pieces, playing, pools, ranks, rations, searching, serving
-from anyworths import splits, splittext, steps, wishes, withpaying
-from anyworths.errors import BadAmount, BadBand, BadBook, BadCoin, BadCount, BadDebt, BadDebts, BadExchange, BadHeaps
-from anyworths.errors import BadKinds, BadLost, BadLot, BadLots, BadMost, BadMove, BadNumber, BadOrder, BadParts
-from anyworths.errors import BadPeople, BadPerson, BadPool, BadRation, BadSplit, BadSplits, BadStep, BadText, BadTotal
-from anyworths.errors import BadTurns, BadUnlike, BadWay, BadWish
+from anyworths import asking, bands, bearing, books, breaking, chains, cheapest, coming, debtrows, debts, debttext
+from anyworths import draining, edits, exchanges, finer, freedom, goals, going, greedy, guessing, holding, lasting
+from anyworths import leastpools, leaving, losses, lots, mends, mints, moving, nextcoins, payments, pieceranks, pieces
+from anyworths import playing, pools, ranks, rations, searching, seeing, serving, splits, splittext, steps, town, wishes
+from anyworths import withpaying
+from anyworths.errors import BadAmount, BadBand, BadBook, BadCoin, BadCount, BadDebt, BadDebts, BadEdit, BadExchange
+from anyworths.errors import BadGoal, BadHeaps, BadKinds, BadLost, BadLot, BadLots, BadMost, BadMove, BadNumber
+from anyworths.errors import BadOrder, BadParts, BadPeople, BadPerson, BadPool, BadRation, BadSeen, BadSplit, BadSplits
+from anyworths.errors import BadStep, BadText, BadTotal, BadTurns, BadUnlike, BadWay, BadWish, CannotSee
 from tests.roads import Case, has_list, listed, run
 
 COIN = 10 ** 9
@@ -254,6 +255,71 @@ def person_faults(*others):
     return [(thing, BadPerson, ()) for thing in NO_NUMBERS + (-1, 3) + others]
 
 
+def seens_faults(people):
+    """The wrong things in the place of seens among so many people."""
+    good = (0, 1, (2,), (1,))
+    faults = [(thing, BadSeen, (0, "many")) for thing in NO_SEQUENCES + ((good,) * 9, [None] * 9)]
+    wrong = [(thing, "seen") for thing in NO_SEQUENCES + ((), good[:3], good + ((),))]
+    for thing in NO_NUMBERS + (-1, people, 1):
+        wrong.append(((thing, 1, None, None), "persons"))
+    for thing in NO_NUMBERS + (-1, people, 0):
+        wrong.append(([0, thing, None, None], "persons"))
+    for thing in [thing for thing, _, _ in pool_faults()] + [()]:
+        wrong.append(((0, 1, thing, None), "over"))
+    for thing, _, _ in pool_faults():
+        wrong.append(([0, 1, [2], thing], "back"))
+    wrong += [((0, 1, (2,), (1, 1)), "amount"), ((0, 1, (1,), (2,)), "amount")]
+    for thing, word in wrong:
+        faults.append(([thing, None], BadSeen, (0, word)))
+        faults.append(((good, list(good), thing, None), BadSeen, (2, word)))
+    return faults
+
+
+def edit_words():
+    """The wrong things in the place of an edit, with their words."""
+    words = [(thing, "edit") for thing in NO_SEQUENCES + ((), ("put",), ("put", 1, 1), ("break", 2), ("join", 1))]
+    for thing in NO_NUMBERS + ("Put", ["put"], {}):
+        words.append(((thing, 1), "edit"))
+    for thing in NO_NUMBERS + (0, -1, COIN + 1):
+        words += [(("put", thing), "coin"), (["take", thing], "coin"), (("break", thing, None), "coin")]
+        words += [(("join", thing, None), "coin"), (("join", 1, thing), "coin")]
+    for thing in [thing for thing, _, _ in pool_faults()] + [(), (3,), (1, 1), (1, 3)]:
+        words.append((("break", 3, thing), "parts"))
+    return words
+
+
+def edits_faults(least, most):
+    """The wrong things in the place of at least and at most so many edits."""
+    good = ("put", 1)
+    many = NO_SEQUENCES + ((good,) * (most + 1), [None] * (most + 1)) + (() if least == 0 else ((), []))
+    faults = [(thing, BadEdit, (0, "many")) for thing in many]
+    for thing, word in edit_words():
+        faults.append(([thing, None], BadEdit, (0, word)))
+        faults.append(((good, ["take", 9], thing, None), BadEdit, (2, word)))
+    return faults
+
+
+def goals_faults():
+    """The wrong things in the place of goals."""
+    good = ("serves", 1)
+    faults = [(thing, BadGoal, (0,)) for thing in NO_SEQUENCES + ((), [], (good,) * 7, [None] * 7)]
+    wrong = NO_SEQUENCES + ((), ("serves",), ("serves", 1, 1), ("at most", 1, 1), ("lasting", 1, None), ("finer",))
+    wrong += (("total", 3, 2), ("leaves", 1, 1), ("Serves", 1), (["serves"], 1), ({}, 1))
+    for thing in NO_NUMBERS + (-1, 10 ** 11):
+        wrong += (("serves", thing), ("serves after", 2, thing), ["at most", thing], ("total", thing, COIN))
+        wrong += (("total", 0, thing), ("leaves", thing, 1), ("leaves", 2, thing), ("lasting", thing, None, None))
+    for thing, _, _ in pool_faults():
+        wrong += (("finer", thing),)
+    for thing, _, _ in band_faults():
+        wrong += (("lasting", 2, thing, None),)
+    for thing, _, _ in MOST[1]:
+        wrong += (["lasting", 2, None, thing],)
+    for thing in wrong:
+        faults.append(([thing, None], BadGoal, (0,)))
+        faults.append(((good, ["at most", 12], thing, None), BadGoal, (2,)))
+    return faults
+
+
 EXCHANGE = ((0, 2, (2,), (1, 1)), exchange_faults())
 PERSON = (2, whole(0, 2, BadPerson))
 WORTH = (2, whole(0, 4, BadAmount))
@@ -262,6 +328,17 @@ SECOND = (((1,), (), (1, 2)), split_faults() + [
     (((1, 1, 2), ()), BadSplits, ("people",)), (((2,), (), (2,)), BadSplits, ("pool",)),
     ([[], (), ()], BadSplits, ("pool",))])
 RANKS = pieceranks.ranks_with((1, 1, 2), 3)
+WORTHS = ((2, 2), wish_faults(4, 2))
+SEENS = (((0, 1, (2,), (1,)), (1, 0, (2,), ())), seens_faults(2))
+SEENS_OF_THREE = (((0, 2, (2,), (1,)),), seens_faults(3) + [
+    (((0, 1, (1,), ()),), CannotSee, (0,)), ([[0, 2, [2], [1]], (0, 2, (2,), ())], CannotSee, (1,))])
+# A debt among two people with the worths 3 and 1, behind those seens.
+DEBT_NOW = ((0, 1, 3), [(None, BadDebt, ("debt",)), ([0, 1, True], BadDebt, ("debt",)), ((0, 2, 1), BadDebt, (
+    "persons",)), ((1, 1, 1), BadDebt, ("persons",)), ((0, 1, 4), BadDebt, ("amount",)), ((1, 0, 2), BadDebt, (
+        "amount",)), ((0, 1, 0), BadDebt, ("amount",))])
+EDIT = (("break", 2, (1, 1)), [(thing, BadEdit, (0, word)) for thing, word in edit_words()])
+OFFER = ((("put", 3), ("join", 1, 2), ("break", 2, (1, 1))), edits_faults(1, 5))
+GOALS = ((("serves", 3), ("total", 5, 9), ("finer", (2, 5)), ("lasting", 2, (0, 3), 1)), goals_faults())
 # What check_split tells of splits of this pool among three people.
 NO_SPLITS = [(None, BadSplit, (0, "many")), (((1,), (1, 2)), BadSplit, (0, "many")), ([(), [0], ()], BadSplit, (
     1, "purse")), (((1,), (2,), (2,)), BadSplit, (2, "coin")), (((1,), (2,), ()), BadSplit, (3, "lacking"))]
@@ -485,6 +562,37 @@ CALLS = [
     (moving.fewest_moved, [SPLIT, SECOND]),
     (moving.moves_between, [SPLIT, SECOND]),
     (moving.after_moves, [SPLIT, (((2, 0, 1), (1, 2, 0)), moves_faults())]),
+    (cheapest.fewest_in_payment, [SPLIT, DEBT]),
+    (cheapest.fewest_to_wish, [SPLIT, (WISH[0], WISH[1] + [((4,), BadSplits, ("people",)), (
+        [1, 1, 1, 1], BadSplits, ("people",))])]),
+    (cheapest.cheapest_row, [SPLIT, ROW]),
+    (seeing.check_seens, [(2, whole(1, 5, BadPeople)), SEENS]),
+    (seeing.seen_payment, [SPLIT, DEBT, (WAY, [(None, BadWay, ("purses",)), (((1,), ()), BadWay, ("people",))])]),
+    (seeing.least_lots, [(2, whole(1, 5, BadPeople)), SEENS]),
+    (seeing.after_seens, [SPLIT, SEENS_OF_THREE]),
+    (guessing.all_guesses, [POOL, WORTHS, SEENS]),
+    (guessing.guesses_now, [POOL, WORTHS, SEENS]),
+    (guessing.sure_coins, [POOL, WORTHS, SEENS]),
+    (guessing.most_coins, [POOL, WORTHS, SEENS]),
+    (guessing.sure_to_pay, [POOL, WORTHS, SEENS, DEBT_NOW]),
+    (asking.best_question, [POOL, WORTHS, SEENS]),
+    (asking.find_out, [POOL, WORTHS, ((), SEENS[1]), (lambda question: True, FREE)]),
+    (asking.fewest_questions, [POOL, WORTHS, ((), SEENS[1])]),
+    (edits.check_edits, [(OFFER[0], edits_faults(0, 20))]),
+    (edits.does_fit, [POOL, EDIT]),
+    (edits.pool_after, [POOL, (OFFER[0], edits_faults(0, 20))]),
+    (goals.check_goals, [GOALS]),
+    (goals.missed_goal, [POOL, GOALS]),
+    (goals.missed_fault, [POOL, GOALS, (goals.Missed(1, 4), FREE)]),
+    (mends.find_mends, [POOL, OFFER, GOALS]),
+    (mends.mends_fault, [POOL, OFFER, GOALS, (mends.Mends((), ()), FREE)]),
+    (mends.find_spoilers, [POOL, OFFER, GOALS]),
+    (lambda split: town.Town(split).purses, [SPLIT]),
+    (lambda debt, way: town.Town(SPLIT[0]).pay(debt, way), [
+        DEBT, (WAY, [((), BadWay, ("purses",)), (((1,), ()), BadWay, ("people",))])]),
+    (lambda told: town.Town(SPLIT[0]).exchange_lots(told), [EXCHANGE]),
+    (lambda person: town.Town(SPLIT[0]).leave(person), [PERSON]),
+    (lambda lot: town.Town(SPLIT[0]).come(lot), [LOT]),
 ]
 # What a function takes in another order of its items, and means the same by.
 UNORDERED = (POOL, EVEN, SPLIT, KINDS)

@@ -153,6 +153,24 @@ FUNCTIONS = {
     "going": ["may_go(split, person)", "goes_with(split, person)"],
     "coming": ["comes(pool, people, lot)", "come_all(pool, people, lots)", "takes_over(pool, people, worth, lot)"],
     "moving": ["fewest_moved(split, other)", "moves_between(split, other)", "after_moves(split, moves)"],
+    "cheapest": ["fewest_in_payment(split, debt)", "fewest_to_wish(split, wish)", "cheapest_row(split, debts)"],
+    "seeing": [
+        "check_seens(people, seens)", "seen_payment(split, debt, way)", "least_lots(people, seens)",
+        "after_seens(split, seens)",
+    ],
+    "guessing": [
+        "all_guesses(pool, worths, seens)", "guesses_now(pool, worths, seens)", "sure_coins(pool, worths, seens)",
+        "most_coins(pool, worths, seens)", "sure_to_pay(pool, worths, seens, debt)",
+    ],
+    "asking": [
+        "best_question(pool, worths, seens)", "find_out(pool, worths, seens, answer)",
+        "fewest_questions(pool, worths, seens)",
+    ],
+    "edits": ["check_edits(edits)", "does_fit(pool, edit)", "pool_after(pool, edits)"],
+    "goals": ["check_goals(goals)", "missed_goal(pool, goals)", "missed_fault(pool, goals, missed)"],
+    "mends": [
+        "find_mends(pool, offer, goals)", "mends_fault(pool, offer, goals, mends)", "find_spoilers(pool, offer, goals)",
+    ],
 }
 RESULTS = {
     "serving": {"Unserved": ("place", "wish")},
@@ -175,6 +193,11 @@ RESULTS = {
     "leaving": {"Stays": ("rows",)},
     "going": {"Gone": ("exchanges", "lot", "purses"), "Kept": ("piece",)},
     "coming": {"Halts": ("place", "unserved")},
+    "cheapest": {"PaidRow": ("moved", "splits"), "Halted": ("place",)},
+    "guessing": {"Unsure": ("can", "cannot")},
+    "asking": {"Found": ("asked", "purses")},
+    "goals": {"Missed": ("place", "why")},
+    "mends": {"Mends": ("least", "failing"), "Spoiler": ("choice", "added", "missed")},
 }
 # What classes have beside __init__ and __eq__.
 METHODS = {
@@ -194,7 +217,39 @@ def results():
             yield getattr(module(name), told), attributes
 
 
+TOWN = (
+    "__init__(self, split)", "__len__(self)", "__iter__(self)", "pay(self, debt, way=None)",
+    "exchange_lots(self, told)", "leave(self, person)", "come(self, lot)", "take_back(self)", "trial(self)",
+    "tried(self, call)",
+)
+
+
 class Interface(unittest.TestCase):
+    def test_all_modules_are_told(self):
+        files = {path.stem for path in PACKAGE.glob("*.py")}
+        self.assertEqual(files, set(FUNCTIONS) | {"__init__", "errors", "town"})
+
+    def test_properties_stand_in_their_class(self):
+        town, mends = module("town").Town, module("mends").Mends
+        for owner, words in ((town, ("coins_now", "worths_now", "is_served")), (mends, ("needed",))):
+            for word in words:
+                self.assertIsInstance(vars(owner)[word], property)
+
+    def test_the_town(self):
+        town = module("town").Town
+        for signature in TOWN:
+            word = signature.partition("(")[0]
+            self.assertEqual(word + str(inspect.signature(vars(town)[word])), signature)
+        made = town(((1,),))
+        self.assertLessEqual({"purses", "log"}, set(vars(made)))
+        self.assertEqual(town.__module__, "anyworths.town")
+
+    def test_errors_are_all_in_their_file(self):
+        for name in FUNCTIONS:
+            for thing in vars(module(name)).values():
+                if inspect.isclass(thing) and issubclass(thing, Exception):
+                    self.assertEqual(thing.__module__, "anyworths.errors")
+
     def test_functions_have_the_told_arguments(self):
         for name, told in FUNCTIONS.items():
             for signature in told:

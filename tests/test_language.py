@@ -230,6 +230,77 @@ class Seen(unittest.TestCase):
                     # A name that builtin values have as a method is not one of these.
                     self.assertFalse(any(hasattr(thing, method) for thing in ("", 0, [], {}, set(), b"")), method)
 
+    def test_l2_no_products_beside_iterated_objects_with_a_length(self):
+        methods = {row.name for _, node in nodes(ast.ClassDef) for row in node.body if isinstance(row, ast.FunctionDef)}
+        self.assertLessEqual({"__iter__", "__len__"}, methods)
+        self.assertEqual([node for _, node in nodes(ast.ImportFrom) if node.module == "itertools"], [])
+
+    def test_l5_length_and_iteration(self):
+        for name, node in nodes(ast.FunctionDef):
+            if node.name == "__len__":
+                self.assertRegex(ast.unparse(node), r"^def __len__\(self\):\n    return len\(self\.\w+\)$")
+            if node.name == "__iter__":
+                self.assertRegex(ast.unparse(node), r"^def __iter__\(self\):\n    return iter\(self\.\w+\)$")
+            if node.name == "__exit__":
+                self.assertEqual([arg.arg for arg in node.args.args], ["self", "kind", "value", "trace"])
+                for row in node.body:
+                    self.assertRegex(ast.unparse(row), r"^self\.town\.(\w+) = self\.\1$")
+
+    def test_l5_properties_are_read_off_objects(self):
+        told = {
+            row.name for _, node in nodes(ast.ClassDef) for row in node.body if isinstance(row, ast.FunctionDef)
+            if row.decorator_list
+        }
+        self.assertEqual(told, {"coins_now", "worths_now", "is_served", "needed"})
+        for name, node in nodes(ast.Attribute):
+            if node.attr in told:
+                self.assertIsInstance(node.ctx, ast.Load)
+                self.assertIn(ast.unparse(node.value), ("self",), name)
+
+    def test_l5_what_properties_run_changes_nothing(self):
+        # Beside own lists that a function has just created, nothing is changed by what properties call.
+        functions = {node.name: node for _, node in nodes(ast.FunctionDef)}
+        names = {"coins_now", "worths_now", "is_served", "needed"}
+        asked = set()
+        while names - asked:
+            word = (names - asked).pop()
+            asked.add(word)
+            node = functions[word]
+            lists = {
+                row.targets[0].id for row in ast.walk(node)
+                if isinstance(row, ast.Assign) and isinstance(row.value, (ast.List, ast.ListComp))
+            }
+            arguments = {arg.arg for arg in node.args.args}
+            for part in ast.walk(node):
+                self.assertNotIsInstance(part, (ast.AugAssign, ast.Delete))
+                if isinstance(part, (ast.Attribute, ast.Subscript)):
+                    self.assertIsInstance(part.ctx, ast.Load)
+                if isinstance(part, ast.Call) and isinstance(part.func, ast.Attribute):
+                    self.assertIn(part.func.value.id, lists, word)
+                if isinstance(part, ast.Call) and isinstance(part.func, ast.Name):
+                    self.assertNotIn(part.func.id, arguments)
+                    if part.func.id in functions:
+                        names.add(part.func.id)
+
+    def test_l7_stars_in_calls(self):
+        for name, node in nodes(ast.Call):
+            for argument in node.args:
+                if isinstance(argument, ast.Starred):
+                    self.assertIsInstance(argument.value, (ast.Name, ast.Attribute), (name, node.lineno))
+
+    def test_l15_lists_and_dicts_at_module_level(self):
+        for name, tree in TREES.items():
+            for row in tree.body:
+                if isinstance(row, ast.Assign):
+                    self.assertNotIsInstance(row.value, (ast.List, ast.Dict), name)
+
+    def test_l19_errors_that_are_caught(self):
+        own = set(top_names(TREES["errors"]))
+        for name, node in nodes(ast.ExceptHandler):
+            caught = node.type.elts if isinstance(node.type, ast.Tuple) else [node.type]
+            for error in caught:
+                self.assertIn(error.id, own, name)
+
     def test_l20_is(self):
         for name, node in nodes(ast.Compare):
             for sign, side in zip(node.ops, node.comparators):
