@@ -48,9 +48,14 @@ def banded_in(coins, people, band):
 
 def few_splits(coins, people):
     """The list of all splits, if they are not too many."""
+    check_few(coins, people)
+    return list(splits_in(coins, people))
+
+
+def check_few(coins, people):
+    """Refuses pools with too many splits."""
     if splits_of(coins, people) > MOST_LISTED:
         raise TooMany(MOST_LISTED)
-    return list(splits_in(coins, people))
 
 
 def asked_debts(split, *, band=None, most=None):

@@ -1,13 +1,12 @@
 """Payments, wishes and rows of debts for which as few coins as can be are moved ([9.3] to [9.5])."""
 
-from anyworths.bands import few_splits
+from anyworths.bands import check_few, few_splits
 from anyworths.debtrows import row_from
 from anyworths.debts import check_debt, sums_in
-from anyworths.errors import BadSplits, TooMany
+from anyworths.errors import BadSplits
 from anyworths.moving import moved_coins
 from anyworths.payments import ways_in
-from anyworths.searching import MOST_LISTED
-from anyworths.splits import check_purses, coins_of, splits_of
+from anyworths.splits import check_purses, coins_of
 from anyworths.wishes import check_wish
 
 
@@ -61,8 +60,7 @@ def cheapest_row(split, debts):
     """The play of a row of debts that moves the fewest coins, or Halted ([9.5])."""
     purses = check_purses(split)
     row, _ = row_from(purses, debts)
-    if splits_of(coins_of(purses), len(purses)) > MOST_LISTED:
-        raise TooMany(MOST_LISTED)
+    check_few(coins_of(purses), len(purses))
     layer = {purses: (0, (purses,))}
     for place, debt in enumerate(row):
         layer = cheapest_ways(layer, debt)

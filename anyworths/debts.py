@@ -29,9 +29,13 @@ def debt_at(worths, debt):
 
 def check_couple(people, debtor, creditor):
     """Refuses what is not two unlike persons."""
-    both = is_whole(debtor, 0, people - 1) and is_whole(creditor, 0, people - 1)
-    if not both or debtor == creditor:
+    if not is_couple(people, debtor, creditor):
         raise BadDebt("persons")
+
+
+def is_couple(people, one, other):
+    """Whether two things are two unlike ones of so many people."""
+    return is_whole(one, 0, people - 1) and is_whole(other, 0, people - 1) and one != other
 
 
 def check_most(most):

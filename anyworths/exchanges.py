@@ -1,9 +1,10 @@
 """Exchanges of lots of equal sum between two persons ([7.2], [7.3])."""
 
+from anyworths.debts import is_couple
 from anyworths.errors import BadExchange, BadPool
 from anyworths.lots import beyond, is_within, lot_with, lots_in, rest_of, sums_of
 from anyworths.payments import swapped, ways_in
-from anyworths.pools import check_pool, is_row, is_whole
+from anyworths.pools import check_pool, is_row
 from anyworths.splits import check_purses
 
 MOST_EXCHANGES = 400
@@ -19,8 +20,7 @@ def exchange_at(purses, exchange, place):
     if not is_row(exchange, 4, 4):
         raise BadExchange(place, "exchange")
     one, other, lot, back = exchange
-    last = len(purses) - 1
-    if not is_whole(one, 0, last) or not is_whole(other, one + 1, last):
+    if not is_couple(len(purses), one, other) or one > other:
         raise BadExchange(place, "persons")
     given = lot_within(purses[one], lot)
     if given is None:
@@ -89,12 +89,12 @@ def pairs_of(people):
 def least_pairs(coins, others):
     """The couples (lot, back) of all least exchanges between purses with these coins, in their order."""
     backs = {}
-    for back in lots_in(others):
-        backs.setdefault(sum(back), []).append(back)
+    for lot in lots_in(others):
+        backs.setdefault(sum(lot), []).append(lot)
     pairs = []
     for lot in lots_in(coins):
-        if len(lot) > 0:
-            pairs.extend([(lot, back) for back in backs.get(sum(lot), ()) if back != lot and are_least(lot, back)])
+        # The lot of no coins has itself alone on the other side.
+        pairs.extend([(lot, back) for back in backs.get(sum(lot), ()) if back != lot and are_least(lot, back)])
     return pairs
 
 
@@ -117,8 +117,7 @@ def least_parts(split, exchange):
 def resplits(split, one, other):
     """All splits with the same worths that differ at most in the purses of two persons ([7.3])."""
     purses = check_purses(split)
-    last = len(purses) - 1
-    if not is_whole(one, 0, last) or not is_whole(other, 0, last) or one == other:
+    if not is_couple(len(purses), one, other):
         raise BadExchange(0, "persons")
     yield from resplits_in(purses, one, other, {})
 

@@ -132,7 +132,7 @@ def are_in_order(thing, choices):
     """Whether a thing is a tuple of some of the choices in their order, none twice."""
     if not isinstance(thing, tuple):
         return False
-    if not all([isinstance(choice, tuple) and are_numbers(choice) and choice in choices for choice in thing]):
+    if not all([isinstance(choice, tuple) and are_numbers(choice) for choice in thing]):
         return False
     return [choice for choice in choices if choice in thing] == list(thing)
 

@@ -1,9 +1,10 @@
 """Coins that are moved from purse to purse ([9.1], [9.2])."""
 
+from anyworths.debts import is_couple
 from anyworths.errors import BadMove, BadSplits
 from anyworths.lots import beyond
 from anyworths.payments import swapped
-from anyworths.pools import are_numbers, is_row, is_whole
+from anyworths.pools import are_numbers, is_row
 from anyworths.splits import check_purses, coins_of
 
 MOST_MOVES = 100
@@ -63,8 +64,7 @@ def check_move(purses, move, place):
     if not is_row(move, 3, 3) or not are_numbers(move):
         raise BadMove(place, "move")
     coin, giver, taker = move
-    last = len(purses) - 1
-    if not is_whole(giver, 0, last) or not is_whole(taker, 0, last) or giver == taker:
+    if not is_couple(len(purses), giver, taker):
         raise BadMove(place, "persons")
     if coin not in purses[giver]:
         raise BadMove(place, "coin")

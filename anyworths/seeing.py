@@ -1,9 +1,10 @@
 """Payments that are seen ([9.6], [9.7])."""
 
+from anyworths.debts import is_couple
 from anyworths.errors import BadPool, BadSeen, CannotSee
 from anyworths.lots import is_within, lot_of
 from anyworths.payments import payment_of, swapped
-from anyworths.pools import check_people, check_pool, is_row, is_whole
+from anyworths.pools import check_people, check_pool, is_row
 from anyworths.splits import check_purses
 
 MOST_SEENS = 8
@@ -22,7 +23,7 @@ def check_seen(people, seen, place):
     if not is_row(seen, 4, 4):
         raise BadSeen(place, "seen")
     giver, taker, over, back = seen
-    if not is_whole(giver, 0, people - 1) or not is_whole(taker, 0, people - 1) or giver == taker:
+    if not is_couple(people, giver, taker):
         raise BadSeen(place, "persons")
     given = seen_lot(over, place, "over")
     if len(given) == 0:

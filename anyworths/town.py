@@ -131,5 +131,5 @@ class Town:
 
     def tried(self, call):
         """What a function returns for the town within a trial ([10.10])."""
-        with self.trial() as town:
+        with Trial(self) as town:
             return call(town)

@@ -98,6 +98,9 @@ class Fitting(Case):
         self.assertIs(does_fit((2, 2), ("join", 2, 2)), True)
         self.assertIs(does_fit((COIN - 1, 1), ("join", 1, COIN - 1)), True)
         self.assertIs(does_fit((COIN, 1), ("join", 1, COIN)), False)
+        self.assertIs(does_fit((COIN, 1, 1), ("join", 1, COIN)), False)
+        self.assertIs(does_fit((COIN, 1, 1), ("join", 1, 1)), True)
+        self.assertIs(does_fit((COIN,), ("take", COIN)), True)
         self.assertIs(does_fit((), ("take", 1)), False)
 
     def test_edits_one_after_another(self):

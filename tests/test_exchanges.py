@@ -117,6 +117,11 @@ class Least(Case):
         self.assertTrue(is_least(SPLIT, EXCHANGE))
         self.assertTrue(is_least(((3, 3, 3), (2,) * 5), (0, 1, (3, 3), (2, 2, 2))))
         self.assertFalse(is_least(((1, 2), (1, 1, 1)), (0, 1, (1, 2), (1, 1, 1))))
+        # Just one sum between none and all of one side.
+        for one, other in (((2, 2), (1, 1, 1, 1)), ((3, 3), (1, 2, 3)), ((4, 4), (1, 1, 2, 4)), ((2, 2), (1, 1, 2))):
+            self.assertFalse(is_least((one, other), (0, 1, one, other)))
+            self.assertFalse(is_least((other, one), (0, 1, other, one)))
+            self.assertNotIn((0, 1, one, other), list(exchanges_of((one, other))))
         self.assertTrue(is_least(((3, 4), (2, 5)), (0, 1, (3, 4), (2, 5))))
         self.assertFalse(is_least(((3, 4), (1, 2, 4)), (0, 1, (3, 4), (1, 2, 4))))
         self.assertFalse(is_least(((3, 4, 1), (1, 2, 5)), (0, 1, (3, 4, 1), (1, 2, 5))))

@@ -314,6 +314,9 @@ class Results(unittest.TestCase):
                 self.assertFalse(one == other)
                 self.assertTrue(one != other)
                 self.assertFalse(other == one)
+            self.assertFalse(one == tuple(vars(one).values()))
+            self.assertTrue(one != tuple(vars(one).values()))
+            self.assertFalse(one == list(vars(one).values()))
 
 
 if __name__ == "__main__":

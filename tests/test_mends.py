@@ -253,6 +253,15 @@ class Wrong(Case):
         self.same(find_mends((1, 1, 1, 1, 1), (("put", 2),), goals), Mends(((),), ()))
         self.fails(TooMany, (400,), find_spoilers, (1, 1, 1, 1, 1), (("put", 2),), goals)
         self.assertIsNone(mends_fault((1, 1, 1, 1, 1), (("put", 2),), goals, Mends(((),), ())))
+        # Behind a choice of failing all goals up to the first missed one are asked, and the one that is told.
+        many, few = (1, 1, 2, 2, 3), ("at most", 1)
+        rows = (((), Missed(1, 5)), ((0,), Missed(1, 6)))
+        self.fails(TooMany, (400,), mends_fault, many, (("put", 2),), goals + (few,), Mends((), rows))
+        self.assertIsNone(mends_fault(many, (("put", 2),), (("at most", 12), few), Mends((), rows)))
+        rows = (((), Missed(0, 5)), ((0,), Missed(0, 6)))
+        self.assertIsNone(mends_fault(many, (("put", 2),), (few,) + goals, Mends((), rows)))
+        rows = (((), Missed(0, 5)), ((0,), Missed(1, None)))
+        self.fails(TooMany, (400,), mends_fault, many, (("put", 2),), (few,) + goals, Mends((), rows))
         # Least ones are asked first, and those of failing only if all of them are good.
         told = Mends(((0,),), (((), Missed(1, 5)),))
         self.fails(TooMany, (400,), mends_fault, (1, 1, 1, 1, 1), (("put", 2),), goals * 2, told)
