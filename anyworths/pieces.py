@@ -98,8 +98,10 @@ def led_to(purses, goals):
     lots = [{} for _ in purses]
     at = 0
     while rows[at] not in goals:
-        for there, exchange in least_steps(rows[at], steps, lots):
-            steps[there] = (rows[at], exchange)
+        now = rows[at]
+        found = least_steps(now, steps, lots)
+        for there, exchange in found:
+            steps[there] = (now, exchange)
             rows.append(there)
         at = at + 1
     return exchanges_along(steps, rows[at]), rows[at]
