@@ -12,27 +12,6 @@ from anyworths.serving import failing_in
 from anyworths.splits import check_purses, coins_of
 
 
-class Trial:
-    """What a block does to a town, for with alone: at its end the town is as it was ahead of it."""
-
-    def __init__(self, town):
-        self.town = town
-        self.purses = None
-        self.log = None
-        self.before = None
-
-    def __enter__(self):
-        self.purses = self.town.purses
-        self.log = self.town.log
-        self.before = self.town.before
-        return self.town
-
-    def __exit__(self, kind, value, trace):
-        self.town.purses = self.purses
-        self.town.log = self.log
-        self.town.before = self.before
-
-
 class Town:
     """A split that changes by deeds, and the log of these deeds."""
 
@@ -41,6 +20,8 @@ class Town:
         self.log = ()
         # The splits ahead of the deeds of the log.
         self.before = ()
+        # This town as it was when the last block of a trial was entered that is not at its end.
+        self.held = None
 
     def __len__(self):
         return len(self.log)
@@ -127,9 +108,23 @@ class Town:
 
     def trial(self):
         """What makes a block a trial, which leaves everything as it was ([10.10])."""
-        return Trial(self)
+        return self
 
     def tried(self, call):
         """What a function returns for the town within a trial ([10.10])."""
-        with Trial(self) as town:
+        with self.trial() as town:
             return call(town)
+
+    def __enter__(self):
+        held = Town(self.purses)
+        held.log = self.log
+        held.before = self.before
+        held.held = self.held
+        self.held = held
+        return self
+
+    def __exit__(self, kind, value, trace):
+        self.purses = self.held.purses
+        self.log = self.held.log
+        self.before = self.held.before
+        self.held = self.held.held

@@ -244,7 +244,7 @@ class Seen(unittest.TestCase):
             if node.name == "__exit__":
                 self.assertEqual([arg.arg for arg in node.args.args], ["self", "kind", "value", "trace"])
                 for row in node.body:
-                    self.assertRegex(ast.unparse(row), r"^self\.town\.(\w+) = self\.\1$")
+                    self.assertRegex(ast.unparse(row), r"^self\.(\w+) = self\.held\.\1$")
 
     def test_l5_properties_are_read_off_objects(self):
         told = {
